@@ -1,0 +1,1 @@
+"""Crewbook: crews that take over from each other when people fall out."""

@@ -1,0 +1,63 @@
+"""The interface: modules, names, parameters, and where functions and classes are defined."""
+
+import ast
+import importlib
+import inspect
+import unittest
+from pathlib import Path
+
+PACKAGE = Path(__file__).resolve().parent.parent / 'crewbook'
+
+FUNCTIONS = {
+    'kinds': ('is_number(thing)', 'is_name(thing)', 'is_set(thing)', 'is_crews(thing)'),
+    'crewchecker': ('lets_crews(thing)',),
+    'crewtexts': ('set_text(people)', 'crews_text(crews)'),
+    'eventtexts': ('event_line(event)', 'log_lines(log)'),
+    'bookuse': ('restricted(book, present, *, kept=())', 'crews_used(book)'),
+}
+CLASSES = {
+    'errors': {
+        'CrewError': {}, 'PaperError': {}, 'TeamError': {}, 'TextError': {},
+        'InvalidPaper': {'__init__': '(self, word, at)'}, 'UnknownPerson': {'__init__': '(self, person)'},
+        'InvalidEvent': {'__init__': '(self, event, reason)'}, 'InvalidWidth': {'__init__': '(self, width)'},
+        'NothingToUndo': {'__init__': '(self, steps)'}, 'InvalidText': {'__init__': '(self, line, field)'},
+        'InvalidRow': {'__init__': '(self, row)'},
+    },
+}
+
+
+def defined_in(module):
+    tree = ast.parse((PACKAGE / (module + '.py')).read_text())
+    return {node.name for node in tree.body if isinstance(node, (ast.FunctionDef, ast.ClassDef))}
+
+
+class TestInterface(unittest.TestCase):
+    def test_functions(self):
+        for module, functions in FUNCTIONS.items():
+            for function in functions:
+                name = function.split('(')[0]
+                self.assertIn(name, defined_in(module))
+                found = getattr(importlib.import_module('crewbook.' + module), name)
+                self.assertEqual(name + str(inspect.signature(found)), function)
+
+    def test_classes_define_their_methods_themselves(self):
+        for module, classes in CLASSES.items():
+            for name, methods in classes.items():
+                self.assertIn(name, defined_in(module))
+                found = getattr(importlib.import_module('crewbook.' + module), name)
+                for method, parameters in methods.items():
+                    self.assertIn(method, vars(found), name)
+                    self.check_method(vars(found)[method], parameters, (name, method))
+
+    def check_method(self, method, parameters, place):
+        if parameters == 'property':
+            self.assertIsInstance(method, property, place)
+        elif isinstance(method, (staticmethod, classmethod)):
+            kind = 'static ' if isinstance(method, staticmethod) else 'class '
+            self.assertEqual(kind + str(inspect.signature(method.__func__)), parameters, place)
+        else:
+            self.assertEqual(str(inspect.signature(method)), parameters, place)
+
+
+if __name__ == '__main__':
+    unittest.main()
