@@ -14,7 +14,22 @@ FUNCTIONS = {
     'crewtexts': ('set_text(people)', 'crews_text(crews)'),
     'eventtexts': ('event_line(event)', 'log_lines(log)'),
     'bookuse': ('restricted(book, present, *, kept=())', 'crews_used(book)'),
+    'crewreadings': ('set_read(text)', 'crews_read(text)'),
+    'losses': ('is_situation(crews, thing)', 'crews_left(crews, present)', 'newcomers(crew, other)',
+               'loss_word(crews, present, crew, lost, width)', 'answers(crews, present, crew, lost, width)',
+               'after(crews, present, *lost)'),
+    'bookchecker': ('lets_book(crews, present, width, thing, *, kept=(), first=None)',),
+    'books': ('books(crews, present, width, *, kept=(), first=None)',
+              'is_booked(crews, present, crew, width, *, kept=())',
+              'book_paper(crews, present, crew, width, *, kept=())',
+              'booked_crews(crews, present, width, *, kept=())'),
+    'goodcrews': ('is_good(crews)', 'first_crew(crews, present, *order)'),
 }
+LIST_METHODS = {
+    'crews': 'property', 'people': 'property', 'size': 'property', 'is_good': 'property',
+    'left': '(self, present)', 'lines': '(self)', '__len__': '(self)', '__eq__': '(self, other)',
+}
+READ = {'read': 'class (cls, text)'}
 CLASSES = {
     'errors': {
         'CrewError': {}, 'PaperError': {}, 'TeamError': {}, 'TextError': {},
@@ -22,6 +37,13 @@ CLASSES = {
         'InvalidEvent': {'__init__': '(self, event, reason)'}, 'InvalidWidth': {'__init__': '(self, width)'},
         'NothingToUndo': {'__init__': '(self, steps)'}, 'InvalidText': {'__init__': '(self, line, field)'},
         'InvalidRow': {'__init__': '(self, row)'},
+    },
+    'lists': {
+        'Crews': {**LIST_METHODS, **READ, 'minimal': 'static (*sets)', '__init__': '(self, *crews)'},
+        'Groups': {**LIST_METHODS, **READ, '__init__': '(self, *groups)'},
+        'Posts': {**LIST_METHODS, **READ, '__init__': '(self, *posts)'},
+        'Webs': {**LIST_METHODS, **READ, '__init__': '(self, *ties)'},
+        'Joined': {**LIST_METHODS, '__init__': '(self, *lists)'},
     },
 }
 

@@ -1,0 +1,38 @@
+"""All books, and the situations in which there is one."""
+
+from crewbook.bookplans import BookPlan, first_open
+from crewbook.crewsets import check_people, crews_within
+
+
+def books(crews, present, width, *, kept=(), first=None):
+    """Yield all books for present in ascending order, those with first on the page of present if it is given."""
+    check_people(crews, present, kept)
+    plan = BookPlan(crews, present, width, kept)
+    start = plan.start(present, first)
+    waiting = [] if start is None else [start]
+    while waiting:
+        choices = waiting.pop()
+        n = first_open(choices)
+        if n is None:
+            yield plan.book(choices)
+        else:
+            # The choices with the least crew are taken next, so that the books ascend.
+            waiting.extend(plan.branches(choices, n)[::-1])
+
+
+def is_booked(crews, present, crew, width, *, kept=()):
+    return book_paper(crews, present, crew, width, kept=kept) is not None
+
+
+def book_paper(crews, present, crew, width, *, kept=()):
+    """Return a book with the crew on the page of present, or None."""
+    check_people(crews, present, crew, kept)
+    for book in books(crews, present, width, kept=kept, first=crew):
+        return book
+    return None
+
+
+def booked_crews(crews, present, width, *, kept=()):
+    check_people(crews, present, kept)
+    left = crews_within(crews, present)
+    return tuple([crew for crew in left if book_paper(crews, present, crew, width, kept=kept) is not None])

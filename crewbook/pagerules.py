@@ -1,0 +1,20 @@
+"""What restricts the pages of a book."""
+
+from crewbook.crewsets import crews_within
+from crewbook.losses import newcomers
+
+
+def relevant_sets(crews, present, kept):
+    """Return the ascending list of the subsets that have a page in a book for present."""
+    subsets = [()]
+    for person in present:
+        with_person = [people + (person,) for people in subsets]
+        subsets = with_person if person in kept else subsets + with_person
+    return sorted([people for people in subsets if crews_within(crews, people)])
+
+
+def leads_to(crew, lost, other, width):
+    """Return whether the other crew, of people who are left, may do the duty after the loss."""
+    if lost not in crew:
+        return other == crew
+    return len(newcomers(crew, other)) <= width
