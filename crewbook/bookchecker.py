@@ -2,14 +2,14 @@
 
 from crewbook.crewsets import check_people, contains, without_person
 from crewbook.errors import InvalidPaper
-from crewbook.kinds import is_tuple_of_names
+from crewbook.kinds import is_pair_of_name_tuples
 from crewbook.pagerules import leads_to, relevant_sets
 
 
 def lets_book(crews, present, width, thing, *, kept=(), first=None):
     """Return the number of pages of any value that is a book for present, otherwise raise InvalidPaper."""
     check_people(crews, present, kept)
-    if not isinstance(thing, tuple) or not all([is_page(page) for page in thing]):
+    if not isinstance(thing, tuple) or not all([is_pair_of_name_tuples(page) for page in thing]):
         raise InvalidPaper("shape", -1)
     relevant = relevant_sets(crews, present, kept)
     check_pages(crews, relevant, thing)
@@ -24,10 +24,6 @@ def lets_book(crews, present, width, thing, *, kept=(), first=None):
             if person not in kept and not keeps_rule(book, people, person, width):
                 raise InvalidPaper("loss", (n, person))
     return len(thing)
-
-
-def is_page(thing):
-    return isinstance(thing, tuple) and len(thing) == 2 and all([is_tuple_of_names(part) for part in thing])
 
 
 def check_pages(crews, relevant, pages):

@@ -1,6 +1,6 @@
 """All books, and the situations in which there is one."""
 
-from crewbook.bookplans import BookPlan, first_open
+from crewbook.bookplans import BookPlan
 from crewbook.crewsets import check_people, crews_within
 
 
@@ -9,15 +9,8 @@ def books(crews, present, width, *, kept=(), first=None):
     check_people(crews, present, kept)
     plan = BookPlan(crews, present, width, kept)
     start = plan.start(present, first)
-    waiting = [] if start is None else [start]
-    while waiting:
-        choices = waiting.pop()
-        n = first_open(choices)
-        if n is None:
-            yield plan.book(choices)
-        else:
-            # The choices with the least crew are taken next, so that the books ascend.
-            waiting.extend(plan.branches(choices, n)[::-1])
+    for choices in plan.settled(start):
+        yield plan.book(choices)
 
 
 def is_booked(crews, present, crew, width, *, kept=()):

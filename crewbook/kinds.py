@@ -29,9 +29,18 @@ def is_crews(thing):
     return is_ascending(thing) and first_inside(thing) is None
 
 
+def is_marked(thing, word, length):
+    """Return whether any value is a tuple of this length that begins with the word."""
+    return isinstance(thing, tuple) and len(thing) == length and thing[0] == word
+
+
 def is_tuple_of_names(thing):
     return isinstance(thing, tuple) and all([is_name(name) for name in thing])
 
 
 def is_tuple_of_name_tuples(thing):
     return isinstance(thing, tuple) and all([is_tuple_of_names(part) for part in thing])
+
+
+def is_pair_of_name_tuples(thing):
+    return is_tuple_of_name_tuples(thing) and len(thing) == 2

@@ -1,6 +1,6 @@
 """What restricts the pages of a book."""
 
-from crewbook.crewsets import crews_within
+from crewbook.crewsets import crews_within, without_person
 from crewbook.losses import newcomers
 
 
@@ -18,3 +18,13 @@ def leads_to(crew, lost, other, width):
     if lost not in crew:
         return other == crew
     return len(newcomers(crew, other)) <= width
+
+
+def allowed_by(crews, known, people, width, kept):
+    """Return the crews that known pages, a dict of the crews by their sets, allow for the set of people."""
+    found = crews_within(crews, people)
+    for larger, other in known.items():
+        lost = newcomers(people, larger)
+        if len(lost) == 1 and without_person(larger, lost[0]) == people and lost[0] not in kept:
+            found = tuple([crew for crew in found if leads_to(other, lost[0], crew, width)])
+    return found

@@ -1,6 +1,9 @@
 """Values and slow direct definitions that several tests use."""
 
+import unittest
 from itertools import combinations, product
+
+from crewbook.errors import InvalidPaper, UnknownPerson
 
 WIDE = (('a', 'c', 'p'), ('a', 'c', 'q'), ('a', 'c', 'r'), ('a', 'c', 's'), ('a', 'p', 'q', 'y'),
         ('a', 'r', 's', 'x'), ('p', 'q', 'r', 's', 'x', 'y'))
@@ -85,3 +88,121 @@ def all_crews(names, most):
     sets = [some for some in subsets(names) if some]
     return [tuple(sorted(chosen)) for many in range(1, most + 1)
             for chosen in combinations(sets, many) if are_crews(chosen)]
+
+
+FOUR = (('a', 'b'), ('c', 'd'))
+# Three crews with a refusal tree of three nodes, one of which splits.
+SPLIT = (('a', 'd'), ('b', 'd', 'e'), ('c', 'e'))
+# Five crews with a refusal tree of five nodes, in which a branch splits again.
+DEEP = (('a', 'b', 'd', 'e'), ('a', 'c', 'd'), ('a', 'c', 'f'), ('a', 'e', 'f'), ('b', 'c', 'e'))
+
+
+def without_one(people, lost):
+    return tuple(person for person in people if person != lost)
+
+
+def random_crews(rnd, names, most):
+    """Return some crews of at most so many members of the list, of some of the names."""
+    chosen = []
+    for _ in range(rnd.randint(1, most)):
+        crew = tuple(sorted(rnd.sample(names, rnd.randint(1, min(4, len(names))))))
+        if not any(set(crew) <= set(other) or set(other) <= set(crew) for other in chosen):
+            chosen.append(crew)
+    return tuple(sorted(chosen))
+
+
+def crews_after(crews, present, crew, lost, width):
+    """Return the crews with which the duty can go on after a loss, or None if it is over."""
+    left = left_in(crews, without_one(present, lost))
+    if not left:
+        return None
+    return tuple(other for other in left if leads(crew, lost, other, width))
+
+
+def is_calm_directly(crews, present, crew, width, kept=()):
+    for lost in present:
+        if lost not in kept:
+            following = crews_after(crews, present, crew, lost, width)
+            rest = without_one(present, lost)
+            if following is not None and not any(
+                    is_calm_directly(crews, rest, other, width, kept) for other in following):
+                return False
+    return True
+
+
+def is_careless_directly(crews, present, crew, width, kept=()):
+    for lost in present:
+        if lost not in kept:
+            following = crews_after(crews, present, crew, lost, width)
+            rest = without_one(present, lost)
+            if following == () or following is not None and not all(
+                    is_careless_directly(crews, rest, other, width, kept) for other in following):
+                return False
+    return True
+
+
+def all_careless(crews):
+    """Return whether all situations of the crews are careless for width 1."""
+    return all(is_careless_directly(crews, present, crew, 1)
+               for present in subsets(people_in(crews)) for crew in left_in(crews, present))
+
+
+def good_directly(crews):
+    """Return whether the crews are good, by the words of (K4)."""
+    return all(
+        any(tuple(sorted((set(one) - {person}) | {new})) in crews for new in set(other) - set(one))
+        for one in crews for other in crews for person in set(one) - set(other))
+
+
+def places_in(thing):
+    """Return the paths to all parts of nested tuples, the empty one to the whole."""
+    inner = [(k,) + path for k, part in enumerate(thing) for path in places_in(part)] if isinstance(thing, tuple) else []
+    return [()] + inner
+
+
+def with_part(thing, path, value):
+    """Return nested tuples with the value in the place of a part."""
+    if not path:
+        return value
+    k = path[0]
+    return thing[:k] + (with_part(thing[k], path[1:], value),) + thing[k + 1:]
+
+
+def part_at(thing, path):
+    for k in path:
+        thing = thing[k]
+    return thing
+
+
+def changed(rnd, thing):
+    """Return nested tuples with one part replaced, left out, doubled or exchanged for another one."""
+    paths = places_in(thing)
+    path, other = rnd.choice(paths[1:]), rnd.choice(paths)
+    way = rnd.randrange(4)
+    if way == 0:
+        return with_part(thing, path, rnd.choice(ODD))
+    if way == 1:
+        return with_part(thing, path, part_at(thing, other))
+    around = part_at(thing, path[:-1])
+    k = path[-1]
+    return with_part(thing, path[:-1], around[:k] + around[k:k + 1] * (2 * way - 4) + around[k + 1:])
+
+
+class CrewTest(unittest.TestCase):
+    """Tests of errors."""
+
+    def refuse(self, function, word, at, *arguments, **named):
+        with self.assertRaises(InvalidPaper) as caught:
+            function(*arguments, **named)
+        error = caught.exception
+        self.assertEqual((error.word, error.at, type(error.at)), (word, at, type(at)), (arguments, named))
+
+    def unknown(self, person, function, *arguments, **named):
+        with self.assertRaises(UnknownPerson) as caught:
+            function(*arguments, **named)
+        self.assertEqual(caught.exception.person, person)
+
+    def by_name_only(self, function, *arguments):
+        """Check that a call with these arguments by position is refused."""
+        with self.assertRaises(TypeError):
+            function(*arguments)

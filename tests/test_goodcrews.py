@@ -1,37 +1,11 @@
 import unittest
-from functools import lru_cache
 from itertools import permutations
 
 from crewbook.bookchecker import lets_book
 from crewbook.errors import UnknownPerson
 from crewbook.goodcrews import first_crew, is_good
-from tests.samples import FIVE, PAIRS, THIRTEEN, WIDE, all_crews, left_in, people_in, relevant_directly, subsets
-
-
-def good_directly(crews):
-    """Return whether the crews are good, by the words of (K4)."""
-    return all(
-        any(tuple(sorted((set(one) - {person}) | {new})) in crews for new in set(other) - set(one))
-        for one in crews for other in crews for person in set(one) - set(other))
-
-
-def all_careless(crews):
-    """Return whether all situations of the crews are careless for width 1."""
-    @lru_cache(None)
-    def careless(present, crew):
-        for lost in present:
-            rest = tuple(person for person in present if person != lost)
-            if lost not in crew:
-                nexts = (crew,)
-            else:
-                left = left_in(crews, rest)
-                nexts = tuple(other for other in left if len(set(other) - set(crew)) <= 1)
-                if left and not nexts:
-                    return False
-            if not all(careless(rest, other) for other in nexts):
-                return False
-        return True
-    return all(careless(present, crew) for present in subsets(people_in(crews)) for crew in left_in(crews, present))
+from tests.samples import (FIVE, PAIRS, THIRTEEN, WIDE, all_careless, all_crews, good_directly, left_in, people_in,
+                           relevant_directly, subsets)
 
 
 class TestIsGood(unittest.TestCase):

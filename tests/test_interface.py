@@ -24,6 +24,13 @@ FUNCTIONS = {
               'book_paper(crews, present, crew, width, *, kept=())',
               'booked_crews(crews, present, width, *, kept=())'),
     'goodcrews': ('is_good(crews)', 'first_crew(crews, present, *order)'),
+    'pages': ('allowed_crews(crews, pages, present, width, *, kept=())', 'page_of(book, people)',
+              'followed(book, present, *lost)'),
+    'refusalchecker': ('lets_refusal(crews, present, crew, width, thing, *, kept=())',),
+    'refusals': ('refusal_paper(crews, present, crew, width, *, kept=())',),
+    'goodchecker': ('lets_good(crews, thing)',),
+    'goodpapers': ('good_paper(crews)',),
+    'offers': ('lets_offers(crews, thing)',),
 }
 LIST_METHODS = {
     'crews': 'property', 'people': 'property', 'size': 'property', 'is_good': 'property',
