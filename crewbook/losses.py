@@ -37,9 +37,7 @@ def loss_word(crews, present, crew, lost, width):
 
 def answers(crews, present, crew, lost, width):
     check_people(crews, present, crew, (lost,))
-    if lost not in crew:
-        return ()
-    return near_crews(crews_within(crews, without_person(present, lost)), crew, width)
+    return next_crews(crews, without_person(present, lost), crew, lost, width) if lost in crew else ()
 
 
 def after(crews, present, *lost):
@@ -47,6 +45,16 @@ def after(crews, present, *lost):
     check_people(crews, present, lost)
     people = newcomers(lost, present)
     return people, crews_within(crews, people)
+
+
+def next_crews(crews, rest, crew, lost, width):
+    """Return the crews that may do the duty after the loss, if it is not over: the one that stays, or the answers.
+
+    The rest are the people who are present then.
+    """
+    if lost not in crew:
+        return (crew,)
+    return near_crews(crews_within(crews, rest), crew, width)
 
 
 def near_crews(crews, crew, width):

@@ -59,7 +59,8 @@ class RefusalPlan(BookPlan):
         A known page restricts smaller sets only, so a set waits for the larger ones of the part.
         """
         ready = [n for n in part if not self.has_larger(part, n)]
-        return min(ready, key=lambda n: len(self.crews_of(self.allowed(known, n))))
+        counts = [(len(self.crews_of(self.allowed(known, n))), at) for at, n in enumerate(ready)]
+        return ready[min(counts)[1]]
 
     def has_larger(self, part, n):
         return any([m in part and not is_loss for m, person, is_loss in self._links[n]])

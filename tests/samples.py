@@ -141,6 +141,54 @@ def is_careless_directly(crews, present, crew, width, kept=()):
     return True
 
 
+def states_in(crews):
+    """Return all states, ascending."""
+    return [(present, crew) for present in subsets(people_in(crews)) for crew in left_in(crews, present) or [()]]
+
+
+def events_in(crews, state, kept=()):
+    """Return the events of a state, ascending."""
+    return sorted([('back', person) if person not in state[0] else ('lost', person)
+                   for person in people_in(crews) if person not in state[0] or person not in kept])
+
+
+def states_after(crews, state, event, width):
+    """Return the states to which an event leads, by the words of the document."""
+    (present, crew), (_, person) = state, event
+    people = tuple(sorted(set(present) ^ {person}))
+    left = left_in(crews, people)
+    if crew in left:
+        return [(people, crew)]
+    if not left:
+        return [(people, ())]
+    return [(people, other) for other in left if crew == () or len(set(other) - set(crew)) <= width]
+
+
+def steady_directly(crews, width, kept=()):
+    """Return the list of the states of the greatest steady set."""
+    chosen = states_in(crews)
+    while True:
+        fewer = [state for state in chosen if all(
+            any(following in chosen for following in states_after(crews, state, event, width))
+            for event in events_in(crews, state, kept))]
+        if fewer == chosen:
+            return chosen
+        chosen = fewer
+
+
+def steady_by_all_sets(crews, width, kept=()):
+    """Return the list of the states in any steady set, found by trying all sets of states."""
+    states = states_in(crews)
+    numbers = {state: 1 << k for k, state in enumerate(states)}
+    needs = [[sum(numbers[following] for following in states_after(crews, state, event, width))
+              for event in events_in(crews, state, kept)] for state in states]
+    steady = 0
+    for chosen in range(1 << len(states)):
+        if all(chosen & need for k, row in enumerate(needs) if chosen >> k & 1 for need in row):
+            steady |= chosen
+    return [state for k, state in enumerate(states) if steady >> k & 1]
+
+
 def all_careless(crews):
     """Return whether all situations of the crews are careless for width 1."""
     return all(is_careless_directly(crews, present, crew, 1)

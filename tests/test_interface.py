@@ -31,6 +31,13 @@ FUNCTIONS = {
     'goodchecker': ('lets_good(crews, thing)',),
     'goodpapers': ('good_paper(crews)',),
     'offers': ('lets_offers(crews, thing)',),
+    'searching': ('crews_with(crews, *, size=None, holds=(), lacks=())', 'without(crews, *people)',
+                  'renamed(crews, **names)'),
+    'steadiness': ('is_steady(crews, present, crew, width, *, kept=())',),
+    'steadychecker': ('lets_steady(crews, present, crew, width, thing, *, kept=())',),
+    'steadypapers': ('steady_paper(crews, present, crew, width, *, kept=())',),
+    'calmchecker': ('lets_calm(crews, present, crew, width, thing, *, kept=())',),
+    'calmpapers': ('calm_paper(crews, present, crew, width, *, kept=())',),
 }
 LIST_METHODS = {
     'crews': 'property', 'people': 'property', 'size': 'property', 'is_good': 'property',

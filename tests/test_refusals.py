@@ -106,6 +106,16 @@ class TestRefusalPaper(CrewTest):
         self.assertGreater(max(number or 0 for number in numbers), 4)
         self.assertIn(None, numbers)
 
+    def test_trees_stay_small(self):
+        # Without care for what does not matter, these trees have thousands of nodes.
+        for crews, crew in (
+                ((('a', 'b'), ('a', 'c'), ('a', 'd'), ('a', 'f'), ('b', 'd'), ('b', 'g'), ('c', 'e'), ('c', 'f'), ('c', 'h'),
+                  ('d', 'g'), ('e', 'f', 'g', 'h')), ('a', 'b')),
+                ((('a', 'b', 'c', 'd', 'g'), ('a', 'b', 'c', 'f'), ('a', 'b', 'e', 'f'), ('a', 'b', 'e', 'h'),
+                  ('a', 'c', 'g', 'h'), ('a', 'd', 'h'), ('a', 'f', 'g'), ('b', 'c', 'd', 'f'), ('b', 'c', 'd', 'h'),
+                  ('b', 'd', 'g', 'h'), ('c', 'e', 'g'), ('d', 'e')), ('a', 'b', 'e', 'h'))):
+            self.assertLess(self.accept(crews, people_in(crews), crew, 2), 100)
+
     def test_a_tree_is_accepted_for_its_situation_only_where_there_is_no_book(self):
         trees = [refusal_paper(PAIRS, FIVE, crew, 0) for crew in PAIRS]
         for width in range(3):
