@@ -3,7 +3,8 @@
 from crewbook.crewsets import check_people, crews_within, without_person
 from crewbook.errors import InvalidPaper
 from crewbook.kinds import is_marked, is_name, is_pair_of_name_tuples, is_tuple_of_names
-from crewbook.losses import is_situation, next_crews
+from crewbook.losses import next_crews
+from crewbook.situationrows import check_situations, check_start
 
 
 def lets_calm(crews, present, crew, width, thing, *, kept=()):
@@ -13,9 +14,8 @@ def lets_calm(crews, present, crew, width, thing, *, kept=()):
         raise InvalidPaper("shape", -1)
     word, rows = thing
     check_situations(crews, rows)
+    check_start(rows, present, crew)
     rules = RowRules(crews, width, kept, rows)
-    if not rules.has_row(present, crew):
-        raise InvalidPaper("start", -1)
     for k, row in enumerate(rows):
         if word == "calm":
             rules.check_followers(k, row)
@@ -41,14 +41,6 @@ def is_row(thing):
 
 def is_followers(thing):
     return isinstance(thing, tuple) and all([entry is None or is_tuple_of_names(entry) for entry in thing])
-
-
-def check_situations(crews, rows):
-    for k, row in enumerate(rows):
-        if not is_situation(crews, row[:2]):
-            raise InvalidPaper("situation", k)
-        if k > 0 and not rows[k - 1][:2] < row[:2]:
-            raise InvalidPaper("rise", k)
 
 
 class RowRules:

@@ -1,17 +1,18 @@
 """Calm papers: why a situation is calm, or why it is not."""
 
-from crewbook.calmsearch import CalmSearch
 from crewbook.crewsets import check_people
+from crewbook.lossmoves import calm_situations, loss_moves
 
 
 def calm_paper(crews, present, crew, width, *, kept=()):
     """Return a calm paper of the situation."""
     check_people(crews, present, crew, kept)
-    search = CalmSearch(crews, present, width, kept)
+    moves = loss_moves(crews, present, width, kept)
+    calm = calm_situations(moves)
     start = (present, crew)
-    if search.has_calm(start):
-        return "calm", rows_from(start, lambda situation: calm_row(search, situation))
-    return "not", rows_from(start, lambda situation: unsafe_row(search, situation))
+    if calm[start]:
+        return "calm", rows_from(start, lambda situation: calm_row(moves, calm, kept, situation))
+    return "not", rows_from(start, lambda situation: unsafe_row(moves, calm, situation))
 
 
 def rows_from(start, row_of):
@@ -30,15 +31,17 @@ def rows_from(start, row_of):
     return tuple([(people, crew, found[(people, crew)]) for people, crew in sorted(found)])
 
 
-def calm_row(search, situation):
+def calm_row(moves, calm, kept, situation):
     """Return the followers of a calm situation, and the situations with them."""
-    choices = [search.calm_after(situation, lost) for lost in search.losable(situation[0])]
-    # Where no calm situation follows a loss, it ends the duty.
-    followers = tuple([calm[0][1] if calm else None for calm in choices])
-    return followers, [calm[0] for calm in choices if calm]
+    losses = moves[situation]
+    chosen = {lost: [following for following in losses[lost] if calm[following]][0] for lost in losses}
+    losable = [person for person in situation[0] if person not in kept]
+    followers = tuple([chosen[lost][1] if lost in chosen else None for lost in losable])
+    return followers, list(chosen.values())
 
 
-def unsafe_row(search, situation):
-    """Return the first unsafe loss in a situation that is not calm, and the situations to which it leads."""
-    lost = search.unsafe_loss(situation)
-    return lost, search.after_loss(situation, lost)
+def unsafe_row(moves, calm, situation):
+    """Return the first loss that leads to no calm situation, and the situations to which it leads."""
+    losses = moves[situation]
+    unsafe = [lost for lost in losses if not any([calm[following] for following in losses[lost]])]
+    return unsafe[0], losses[unsafe[0]]

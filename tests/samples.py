@@ -1,6 +1,7 @@
 """Values and slow direct definitions that several tests use."""
 
 import unittest
+from functools import lru_cache
 from itertools import combinations, product
 
 from crewbook.errors import InvalidPaper, UnknownPerson
@@ -93,6 +94,11 @@ def all_crews(names, most):
 FOUR = (('a', 'b'), ('c', 'd'))
 # Three crews with a refusal tree of three nodes, one of which splits.
 SPLIT = (('a', 'd'), ('b', 'd', 'e'), ('c', 'e'))
+# Crews with four shortest ways to a regret, of two steps each, from the crew ('b', 'f').
+LONG = (('a', 'e'), ('b', 'd'), ('b', 'e'), ('b', 'f'), ('c', 'd'), ('d', 'e'), ('d', 'f'), ('e', 'f'))
+# Crews with three shortest ways to a regret, of three steps each, from the crew ('b', 'g') if f is kept.
+LONGER = (('a', 'b'), ('a', 'd'), ('a', 'f'), ('a', 'g'), ('b', 'f'), ('b', 'g'), ('c', 'd'), ('d', 'e'), ('d', 'f'),
+          ('e', 'f'), ('e', 'g'), ('f', 'g'))
 # Five crews with a refusal tree of five nodes, in which a branch splits again.
 DEEP = (('a', 'b', 'd', 'e'), ('a', 'c', 'd'), ('a', 'c', 'f'), ('a', 'e', 'f'), ('b', 'c', 'e'))
 
@@ -139,6 +145,54 @@ def is_careless_directly(crews, present, crew, width, kept=()):
                     is_careless_directly(crews, rest, other, width, kept) for other in following):
                 return False
     return True
+
+
+def remembered(crews, width, kept=()):
+    """Return what tells directly whether a situation is calm, and careless; both remember what they found."""
+    def losses(present, crew):
+        for lost in present:
+            following = crews_after(crews, present, crew, lost, width)
+            if lost not in kept and following is not None:
+                yield without_one(present, lost), following
+
+    @lru_cache(maxsize=None)
+    def calm(present, crew):
+        return all(any(calm(rest, other) for other in following) for rest, following in losses(present, crew))
+
+    @lru_cache(maxsize=None)
+    def careless(present, crew):
+        return all(following and all(careless(rest, other) for other in following)
+                   for rest, following in losses(present, crew))
+
+    return calm, careless
+
+
+def regrets_directly(crews, present, crew, width, kept=()):
+    """Return all shortest ways to a regret, ascending, found by trying longer and longer ways."""
+    calm, _ = remembered(crews, width, kept)
+    ways = [((), present, crew)] if calm(present, crew) else []
+    while ways:
+        ways = [longer for way in ways for longer in longer_by_one(crews, way, width, kept)]
+        found = sorted(way for way, people, last in ways if not calm(people, last))
+        if found:
+            return found
+    return []
+
+
+def longer_by_one(crews, start, width, kept):
+    """Return each way with one more step, as (way, present, crew) like the start."""
+    way, present, crew = start
+    found = []
+    for lost in present:
+        for other in () if lost in kept else crews_after(crews, present, crew, lost, width) or ():
+            step = (lost, other if lost in crew else None)
+            found.append((way + (step,), without_one(present, lost), other))
+    return found
+
+
+def situations_in(crews):
+    """Return all situations, ascending."""
+    return [state for state in states_in(crews) if state[1]]
 
 
 def states_in(crews):

@@ -37,6 +37,13 @@ FUNCTIONS = {
     'steadychecker': ('lets_steady(crews, present, crew, width, thing, *, kept=())',),
     'steadypapers': ('steady_paper(crews, present, crew, width, *, kept=())',),
     'calmchecker': ('lets_calm(crews, present, crew, width, thing, *, kept=())',),
+    'calm': ('is_calm(crews, present, crew, width, *, kept=())', 'calm_crews(crews, present, width, *, kept=())',
+             'safe_answers(crews, present, crew, lost, width, *, kept=())'),
+    'careless': ('is_careless(crews, present, crew, width, *, kept=())',),
+    'regrets': ('regrets(crews, present, crew, width, *, kept=())',),
+    'carelesschecker': ('lets_careless(crews, present, crew, width, thing, *, kept=())',),
+    'carelesspapers': ('careless_paper(crews, present, crew, width, *, kept=())',),
+    'mending': ("least_offers(crews, present, crew, offers, width, *, goal='calm')",),
     'calmpapers': ('calm_paper(crews, present, crew, width, *, kept=())',),
 }
 LIST_METHODS = {
