@@ -16,6 +16,10 @@ def without_person(people, lost):
     return tuple([person for person in people if person != lost])
 
 
+def with_person(people, person):
+    return tuple(sorted(people + (person,)))
+
+
 def people_of(crews):
     return tuple(sorted({person for crew in crews for person in crew}))
 

@@ -29,6 +29,13 @@ def is_crews(thing):
     return is_ascending(thing) and first_inside(thing) is None
 
 
+def is_same(one, other):
+    """Return whether two values are equal, and all their parts of the same kinds."""
+    if isinstance(one, (tuple, list)) and one == other:
+        return all([is_same(part, match) for part, match in zip(one, other)])
+    return isinstance(one, bool) == isinstance(other, bool) and one == other
+
+
 def is_marked(thing, word, length):
     """Return whether any value is a tuple of this length that begins with the word."""
     return isinstance(thing, tuple) and len(thing) == length and thing[0] == word

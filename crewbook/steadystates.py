@@ -4,7 +4,7 @@ A state is a pair (present, crew), with () in the place of the crew if no crew i
 "back" or "lost" and a person.
 """
 
-from crewbook.crewsets import contains, crews_within, people_of, without_person
+from crewbook.crewsets import contains, crews_within, people_of, with_person, without_person
 from crewbook.kinds import is_set
 from crewbook.losses import is_situation, newcomers, next_crews
 
@@ -27,7 +27,7 @@ def next_states(crews, state, event, width):
     """Return the states to which an event leads."""
     present, crew = state
     word, person = event
-    people = without_person(present, person) if word == "lost" else tuple(sorted(present + (person,)))
+    people = without_person(present, person) if word == "lost" else with_person(present, person)
     left = crews_within(crews, people)
     if crew in left:
         return [(people, crew)]

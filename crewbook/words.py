@@ -29,6 +29,8 @@ def value_read(kind, word):
         return number_read(word)
     if kind == "PEOPLE":
         return people_read(word)
+    if kind == "CREW":
+        return people_read(word) or None
     if kind == "NAME":
         return word if is_name(word) else None
     return word if word == kind else None

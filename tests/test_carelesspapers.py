@@ -5,7 +5,7 @@ from crewbook.careless import is_careless
 from crewbook.carelesschecker import lets_careless
 from crewbook.carelesspapers import careless_paper
 from crewbook.errors import InvalidPaper
-from tests.samples import (ALL, BIG, DEEP, FIVE, FOUR, LONG, PAIRS, TWO, WIDE, CrewTest, all_crews, is_careless_directly,
+from tests.samples import (ALL, BIG, DEEP, FIVE, FOUR, LONG, PAIRS, WIDE, CrewTest, all_crews, is_careless_directly,
                            people_in, random_crews, remembered, situations_in)
 
 

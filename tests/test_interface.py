@@ -44,6 +44,11 @@ FUNCTIONS = {
     'carelesschecker': ('lets_careless(crews, present, crew, width, thing, *, kept=())',),
     'carelesspapers': ('careless_paper(crews, present, crew, width, *, kept=())',),
     'mending': ("least_offers(crews, present, crew, offers, width, *, goal='calm')",),
+    'widths': ('widths(crews, present, crew, *, kept=())',),
+    'wages': ('cheapest(crews, present, **wages)', 'price_of(crews, present, *lost, **wages)',
+              'threshold(crews, present, person, **wages)'),
+    'replaying': ('is_log(thing)', 'replayed(log)'),
+    'eventreadings': ('read_event(text)', 'read_log(lines)'),
     'calmpapers': ('calm_paper(crews, present, crew, width, *, kept=())',),
 }
 LIST_METHODS = {
@@ -66,6 +71,16 @@ CLASSES = {
         'Webs': {**LIST_METHODS, **READ, '__init__': '(self, *ties)'},
         'Joined': {**LIST_METHODS, '__init__': '(self, *lists)'},
     },
+    'watching': {
+        'Watch': {
+            '__init__': '(self, crews, crew, *, width=1, kept=())', 'present': 'property', 'crew': 'property', 'width': 'property',
+            'is_calm': 'property', 'is_careless': 'property', 'set_width': '(self, value)', 'lose': '(self, person, answer=None)',
+            'back': '(self, person, crew=None)', 'widen': '(self, width)', 'go': '(self, event)', 'advice': '(self, person)',
+            'judge': '(self)', 'tried': '(self, *events)', 'log': '(self)', '__len__': '(self)', '__str__': '(self)',
+            '__eq__': '(self, other)', 'undo': '(self)', 'do_all': '(self, *events, keep=False)', 'counts': '(self)',
+        },
+    },
+    'desk': {'Desk': {'__init__': '(self)', 'say': '(self, row)', 'counts': '(self)'}},
 }
 
 
