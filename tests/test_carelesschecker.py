@@ -157,6 +157,17 @@ class TestStuck(CarelessTest):
         # After this way only m, p and q are present, and the loss of m ends the duty.
         self.refuse_pairs('end', -1, WAY, 'm')
 
+    def test_each_answer_does_the_duty_from_then_on(self):
+        crews = (('a', 'b'), ('a', 'c'), ('a', 'd'), ('e', 'f'))
+        way = (('b', ('a', 'c')), ('c', ('a', 'd')))
+        self.assertIs(lets_careless(crews, people_in(crews), AB, 1, ('stuck', way, 'a')), False)
+        self.assertIs(lets_careless(crews, people_in(crews), AB, 1, ('stuck', way, 'd')), False)
+        for lost in ('b', 'c', 'e'):
+            self.refuse(lets_careless, 'end', -1, crews, people_in(crews), AB, 1, ('stuck', way, lost))
+        self.refuse(lets_careless, 'end', -1, crews, people_in(crews), AB, 1, ('stuck', way[:1], 'c'))
+        self.refuse(lets_careless, 'answer', 1, crews, people_in(crews), AB, 1, ('stuck', (way[0], ('c', None)), 'a'))
+        self.refuse(lets_careless, 'answer', 1, crews, people_in(crews), AB, 1, ('stuck', (way[0], ('d', ('a', 'c'))), 'a'))
+
     def test_lost(self):
         for lost in ('z', 'a'):
             self.refuse_pairs('lost', 0, ((lost, None),), 'm')

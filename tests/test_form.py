@@ -141,6 +141,46 @@ class TestForm(unittest.TestCase):
             if isinstance(node.ctx, ast.Store):
                 self.assertNotIn(node.attr, names, (path, node.lineno))
 
+    def test_finally_only_counts(self):
+        for path, node in nodes(ast.Try):
+            for row in node.finalbody:
+                self.assertIsInstance(row, ast.AugAssign, (path, row.lineno))
+                self.assertIsInstance(row.target, ast.Attribute, (path, row.lineno))
+                self.assertIsInstance(row.value, ast.Constant, (path, row.lineno))
+
+    def test_only_own_errors_are_caught(self):
+        own = {node.name for path, node in nodes(ast.ClassDef) if path.stem == 'errors'}
+        for path, node in nodes(ast.ExceptHandler):
+            self.assertIn(node.type.id, own, (path, node.lineno))
+
+    def test_methods_with_two_underscores_return_plainly(self):
+        for path, node in nodes(ast.FunctionDef):
+            if node.name in ('__len__', '__str__', '__repr__'):
+                self.assertIsInstance(node.body[-1], ast.Return, (path, node.lineno))
+                for row in ast.walk(node):
+                    if isinstance(row, ast.Return):
+                        self.assertIsInstance(row.value, (ast.Constant, ast.JoinedStr, ast.Call), (path, row.lineno))
+
+    def test_what_properties_run_assigns_no_attributes(self):
+        functions = {}
+        for _, node in nodes(ast.FunctionDef):
+            functions.setdefault(node.name, []).append(node)
+        waiting = [node for _, node in nodes(ast.FunctionDef)
+                   if any(isinstance(one, ast.Name) and one.id == 'property' for one in node.decorator_list)]
+        seen = []
+        while waiting:
+            node = waiting.pop()
+            if node not in seen:
+                seen.append(node)
+                for part in ast.walk(node):
+                    if isinstance(part, ast.Attribute):
+                        self.assertIsInstance(part.ctx, ast.Load, (node.name, part.lineno))
+                    if isinstance(part, ast.Call):
+                        called = part.func.id if isinstance(part.func, ast.Name) else part.func.attr
+                        self.assertNotIn(called, {'append', 'extend', 'pop', 'setdefault', 'update', 'insert', 'remove', 'clear'})
+                        waiting += functions.get(called, [])
+        self.assertGreater(len(seen), 20)
+
 
 if __name__ == '__main__':
     unittest.main()

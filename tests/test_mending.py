@@ -82,6 +82,12 @@ class TestLeastOffers(CrewTest):
             self.assertEqual(least_offers(FOUR, people_in(FOUR), FOUR[0], offers, 1, goal=goal),
                              ((('keep', 'a'), ('keep', 'b')),))
 
+    def test_the_sets_ascend_whatever_their_sizes(self):
+        crews = (('a', 'b'), ('a', 'e'), ('c', 'd', 'e'))
+        offers = (('crew', ('a', 'c', 'd')), ('crew', ('b', 'd')), ('keep', 'a'), ('keep', 'b'))
+        self.assertEqual(least_offers(crews, people_in(crews), ('a', 'b'), offers, 1),
+                         ((('crew', ('b', 'd')), ('keep', 'b')), (('keep', 'a'),)))
+
     def test_a_kept_person_who_is_absent_has_no_effect(self):
         present = ('m', 'p', 'q', 'r')
         self.assertEqual(least_offers(PAIRS, present, MP, (('keep', 'm'), ('keep', 'n')), 1), ((('keep', 'm'),),))

@@ -407,6 +407,8 @@ class TestAdvice(WatchTest):
 
     def test_other_widths_and_kept_people(self):
         self.assertIn(watch_of(kept=('m',)).advice('n'), (MP, MQ))
+        self.assertIsNone(watch_of(crews=(MN, MP, QR)).advice('n'))
+        self.assertEqual(watch_of(crews=(MN, MP, QR), kept=('m', 'p')).advice('n'), MP)
         self.assertIn(watch_of(width=2).advice('n'), (MP, MQ, QR))
 
 
